@@ -1,6 +1,8 @@
 package herald_test
 
 import (
+	"fmt"
+	"slices"
 	"strings"
 	"testing"
 	"time"
@@ -68,3 +70,57 @@ func ends(t *testing.T, do func()) {
 		t.Fatal("P1: a call goes on without end")
 	}
 }
+
+// engine is one that Compile gives of the text.
+func engine(t *testing.T, text string) *herald.Engine {
+	t.Helper()
+	x, at, e := herald.Compile(text)
+	if x == nil || at != 0 || e != api.OK {
+		t.Fatalf("Compile(%q): %v, %d, %d, want an engine", text, x, at, e)
+	}
+	return x
+}
+
+// five is an event: its time, its kind, its fields.
+type five [5]int
+
+func (f five) event() api.Event {
+	return api.Event{Time: f[0], Kind: f[1], A: f[2], B: f[3], C: f[4]}
+}
+
+// fed feeds events, and tells as a text the matches behind each of them, and behind a colon the runs.
+func fed(t *testing.T, x *herald.Engine, events ...five) string {
+	t.Helper()
+	var all []string
+	for i, ev := range events {
+		matches, e := x.Feed(ev.event())
+		if e != api.OK {
+			t.Fatalf("Feed(%v), event %d: error %d", ev, i, e)
+		}
+		all = append(all, fmt.Sprint(matches, ":", x.Look().Runs))
+	}
+	return strings.Join(all, " ")
+}
+
+// tells: an engine of the text, fed with the events, tells this.
+func tells(t *testing.T, text, want string, events ...five) {
+	t.Helper()
+	if got := fed(t, engine(t, text), events...); got != want {
+		t.Errorf("%q: fed with %v: %s, want %s", text, events, got, want)
+	}
+}
+
+// fails: the event is refused, and all is as before but for the failure.
+func fails(t *testing.T, x *herald.Engine, want api.Errno, ev five) {
+	t.Helper()
+	view := x.Look()
+	view.Failed = want
+	if matches, e := x.Feed(ev.event()); len(matches) != 0 || e != want {
+		t.Errorf("P5: Feed(%v): %v, %d, want nothing, %d", ev, matches, e, want)
+	}
+	if v := x.Look(); v != view {
+		t.Errorf("P6: behind a failure: %+v, want %+v", v, view)
+	}
+}
+
+func sameLists(a, b [][]int) bool { return slices.EqualFunc(a, b, slices.Equal) }

@@ -1,6 +1,7 @@
 package herald_test
 
 import (
+	"math"
 	"math/rand"
 	"strings"
 	"testing"
@@ -120,4 +121,91 @@ func TestP1FirstNamedError(t *testing.T) {
 		"within 5 rate 12 (x:1 times 4|x:2 times 4) then y:1 times 4 then @not 1")
 	refused(t, api.ErrTwice, "within 5 rate 12 (x:1 times 4|x:2 times 4) then y:1 times 3 then @x:1")
 	refused(t, api.ErrName, "within 5 rate 12 (x:1 times 4|x:2 times 4) then y:1 times 4 if @z.a = 1")
+}
+
+// wholeFeed: what Feed and Look answer is whole, whatever the event is.
+func wholeFeed(t *testing.T, x *herald.Engine, ev api.Event) {
+	t.Helper()
+	ahead := x.Look()
+	matches, e := x.Feed(ev)
+	v := x.Look()
+	switch {
+	case e != api.OK && (len(matches) != 0 || v.Events != ahead.Events || v.Failed != e):
+		t.Errorf("P1: %+v: error %d, beside it %v, %+v", ev, e, matches, v)
+	case ahead.Failed != api.OK && e != ahead.Failed || e != api.OK && e != api.ErrTime && e != api.ErrRate:
+		t.Errorf("P5: %+v: error %d, behind %+v", ev, e, ahead)
+	case e == api.OK && (v.Events != ahead.Events+1 || v.Failed != api.OK):
+		t.Errorf("P6: %+v: %+v, behind %+v", ev, v, ahead)
+	}
+}
+
+func TestP1AnyEvent(t *testing.T) {
+	numbers := []int{math.MinInt, math.MinInt + 1, -1000000, -1, 0, 1, 2, 1000000, math.MaxInt - 1, math.MaxInt}
+	random := rand.New(rand.NewSource(3))
+	number := func() int {
+		if random.Intn(4) == 0 {
+			return int(random.Uint64())
+		}
+		return numbers[random.Intn(len(numbers))]
+	}
+	texts := []string{
+		long,
+		"within 1 rate 1 x:1",
+		"within 1000000 rate 12 x:1 times 4 then y:1 times 4",
+		"within 1000000 rate 12 x:0 if it.a / it.b / it.c != it.t then y:1 if x.a / y.a = x.a * y.a or - x.b / (y.b - x.b) < 1 then not 2 if it.t / (it.t - x.t) > x.a / -1 then z:1 if z.t / x.t = z.a",
+	}
+	ends(t, func() {
+		for _, text := range texts {
+			for range 300 {
+				x := engine(t, text)
+				for range 20 {
+					wholeFeed(t, x, api.Event{Time: number(), Kind: random.Intn(4), A: number(), B: number(), C: number()})
+				}
+				x = engine(t, text)
+				for n := range 20 {
+					wholeFeed(t, x, api.Event{Time: numbers[n/2], Kind: random.Intn(4), A: number(), B: number(), C: number()})
+				}
+				x = engine(t, text)
+				for range 20 {
+					wholeFeed(t, x, api.Event{Time: number(), Kind: number(), A: number(), B: number(), C: number()})
+				}
+			}
+		}
+	})
+}
+
+// Every two numbers at their ends, by each sign: nothing panics, be the test true or not.
+func TestP1NumbersAtTheirEnds(t *testing.T) {
+	numbers := []int{math.MinInt, math.MinInt + 1, -2, -1, 0, 1, 2, math.MaxInt - 1, math.MaxInt}
+	ends(t, func() {
+		for _, sign := range []string{"+", "-", "*", "/"} {
+			x := engine(t, "within 1 rate 12 x:1 if -(x.a "+sign+" x.b) = - x.c and x.c = x.a "+sign+" x.b or x.a < x.b / x.a")
+			time := 0
+			for _, a := range numbers {
+				for _, b := range numbers {
+					for _, c := range numbers {
+						time++
+						wholeFeed(t, x, api.Event{Time: time, Kind: 1, A: a, B: b, C: c})
+					}
+				}
+			}
+			if v := x.Look(); v.Events != time || v.Failed != api.OK {
+				t.Errorf("P7: behind %d events, one in a window: %+v", time, v)
+			}
+		}
+	})
+}
+
+// The most runs, the longest conditions: a call still ends soon.
+func TestP1TheMostThereCanBe(t *testing.T) {
+	test := " if 1" + strings.Repeat("+1", 230) + " = it.a"
+	ends(t, func() {
+		x := engine(t, "within 12 rate 12 x:1 times 4 then y:1 times 4"+test)
+		for n := range 200 {
+			wholeFeed(t, x, api.Event{Time: n, Kind: 1, A: 231})
+		}
+		if v := x.Look(); v != (api.View{Events: 200, Runs: 3301, Bound: 3301}) {
+			t.Errorf("P7: %+v, want 3301 runs", v)
+		}
+	})
 }

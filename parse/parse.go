@@ -23,10 +23,10 @@ func Read(tokens []scan.Token) (Pattern, int, api.Errno) {
 
 func (r *reader) pattern() Pattern {
 	r.expect("within")
-	r.number(1, api.MaxWindow)
+	window := r.number(1, api.MaxWindow)
 	r.expect("rate")
 	rate := r.number(1, api.MaxRate)
-	return Pattern{Rate: rate, Body: r.sequence()}
+	return Pattern{Window: window, Rate: rate, Body: r.sequence()}
 }
 
 func (r *reader) sequence() Sequence {
@@ -55,19 +55,19 @@ func (r *reader) step() Part {
 	step := Part{Name: t.Text, Place: t.Place, Times: 1}
 	r.skip()
 	r.expect(":")
-	r.number(0, api.MaxKind)
+	step.Kind = r.number(0, api.MaxKind)
 	if r.take("times") {
 		step.Times = r.number(1, api.MaxTimes)
 	}
-	step.Uses = r.condition()
+	step.Condition = r.condition()
 	return step
 }
 
 func (r *reader) guard() Part {
 	guard := Part{Place: r.now().Place}
 	r.skip()
-	r.number(0, api.MaxKind)
-	guard.Uses = r.condition()
+	guard.Kind = r.number(0, api.MaxKind)
+	guard.Condition = r.condition()
 	return guard
 }
 

@@ -15,7 +15,7 @@ type reader struct {
 	deep      int
 	tooDeep   mark
 	badNumber mark
-	uses      []Use // of the condition that is being read
+	ops       []Op // of the condition that is being read
 }
 
 // mark keeps the first place that it is told.
@@ -41,19 +41,26 @@ func (r *reader) fail() {
 	r.ahead = []scan.Token{{Kind: scan.Wrong, Place: r.now().Place}}
 }
 
-// take goes past the next token if it is one of texts.
-func (r *reader) take(texts ...string) bool {
-	if !slices.Contains(texts, r.now().Text) {
-		return false
+// which goes past the next token if it is one of texts, and tells that one. It
+// tells the text it was given, not the token's, which is the caller's and not
+// to be kept.
+func (r *reader) which(texts ...string) string {
+	i := slices.Index(texts, r.now().Text)
+	if i < 0 {
+		return ""
 	}
 	r.skip()
-	return true
+	return texts[i]
 }
 
-func (r *reader) expect(texts ...string) {
-	if !r.take(texts...) {
+func (r *reader) take(texts ...string) bool { return r.which(texts...) != "" }
+
+func (r *reader) expect(texts ...string) string {
+	text := r.which(texts...)
+	if text == "" {
 		r.fail()
 	}
+	return text
 }
 
 func (r *reader) number(low, high int) int {

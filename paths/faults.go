@@ -38,9 +38,9 @@ func nameFault(path Path, i int) (int, api.Errno) {
 	}) {
 		return own.Place, api.ErrTwice
 	}
-	for _, use := range own.Uses {
-		if use.Name != own.Name && !isNamed(ahead, use.Name) {
-			return use.Place, api.ErrName
+	for _, op := range own.Condition {
+		if op.Name != "" && op.Name != own.Name && !isNamed(ahead, op.Name) {
+			return op.Place, api.ErrName
 		}
 	}
 	return 0, api.OK

@@ -11,26 +11,33 @@ import (
 // Path is steps, with guards between them: no brackets, each step once for each of its times.
 type Path []parse.Part
 
-// Bound is how many runs a pattern can ever have; or the first error of its paths, and its place.
-func Bound(p parse.Pattern) (int, int, api.Errno) {
+// Plan is a pattern, as its paths.
+type Plan struct {
+	Window, Rate int
+	Bound        int // how many runs it can ever have
+	Paths        []Path
+}
+
+// Make works out the plan of a pattern; or the first error of its paths, and its place.
+func Make(p parse.Pattern) (Plan, int, api.Errno) {
 	if isBig(p.Body) {
-		return 0, 0, api.ErrBig
+		return Plan{}, 0, api.ErrBig
 	}
 	all := ofSequence(p.Body)
 	if place, e := firstFault(all, guardFault); e != api.OK {
-		return 0, place, e
+		return Plan{}, place, e
 	}
 	if place, e := firstFault(all, nameFault); e != api.OK {
-		return 0, place, e
+		return Plan{}, place, e
 	}
 	bound := 0
 	for _, path := range all {
 		bound += mostRuns(path, p.Rate)
 	}
 	if bound > api.MaxBound {
-		return 0, 0, api.ErrBig
+		return Plan{}, 0, api.ErrBig
 	}
-	return bound, 0, api.OK
+	return Plan{p.Window, p.Rate, bound, all}, 0, api.OK
 }
 
 // isBig counts without making the paths, of which a short text can have very many.
